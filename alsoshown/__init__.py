@@ -1,0 +1,1 @@
+"""Alsoshown: what every endless round on a net shows."""

@@ -1,0 +1,65 @@
+"""Point 53 and the interface: names and arguments, and where they are defined."""
+
+import importlib
+import inspect
+import unittest
+
+FUNCTIONS = {
+    "nets": {"walked": "net lanes", "way_from": "net a b", "parts_of": "net"},
+    "rounds": {"fits": "net ring"},
+}
+
+METHODS = {
+    ("nets", "Net"): {
+        "__init__": "", "post": "name", "lane": "name start end", "start_of": "lane", "end_of": "lane",
+        "out_of": "post", "copy": "", "cut": "lane", "__getitem__": "at", "__contains__": "x", "__len__": "",
+        "__sub__": "other", "__or__": "other", "__ior__": "other", "__neg__": "", "__le__": "other",
+        "__eq__": "other"},
+    ("rounds", "Round"): {
+        "__init__": "lanes", "root": "", "least": "", "taken": "", "places": "lanes", "__getitem__": "at",
+        "__len__": "", "__contains__": "x", "__eq__": "other", "__mul__": "other", "__lshift__": "other",
+        "__neg__": ""},
+}
+
+PROPERTIES = {("nets", "Net"): ["posts", "lanes"], ("rounds", "Round"): ["lanes"]}
+
+
+def module_of(name):
+    return importlib.import_module(f"alsoshown.{name}")
+
+
+class InterfaceTest(unittest.TestCase):
+    def parameters(self, function):
+        """The names of the parameters, after a check that all may be passed by position."""
+        found = inspect.signature(function).parameters.values()
+        for parameter in found:
+            self.assertEqual(parameter.kind, parameter.POSITIONAL_OR_KEYWORD)
+        return " ".join(parameter.name for parameter in found)
+
+    def test_functions(self):
+        for name, functions in FUNCTIONS.items():
+            for function, parameters in functions.items():
+                made = vars(module_of(name))[function]
+                self.assertTrue(inspect.isfunction(made))
+                self.assertEqual((made.__module__, made.__name__), (f"alsoshown.{name}", function))
+                self.assertEqual(self.parameters(made), parameters, function)
+
+    def test_classes_and_their_own_methods(self):
+        for (name, title), methods in METHODS.items():
+            made = vars(module_of(name))[title]
+            self.assertEqual((made.__module__, made.__name__), (f"alsoshown.{name}", title))
+            for method, parameters in methods.items():
+                own = vars(made)[method]
+                self.assertTrue(inspect.isfunction(own), method)
+                self.assertEqual(self.parameters(own), f"self {parameters}".strip(), method)
+
+    def test_properties_are_read_only(self):
+        for (name, title), properties in PROPERTIES.items():
+            for attribute in properties:
+                own = vars(vars(module_of(name))[title])[attribute]
+                self.assertIsInstance(own, property)
+                self.assertIsNone(own.fset)
+
+
+if __name__ == "__main__":
+    unittest.main()

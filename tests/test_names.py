@@ -1,0 +1,59 @@
+"""Points 1 and 2: what is a name, and what is an integer."""
+
+import unittest
+
+from alsoshown.errors import BadName, BadNumber
+from alsoshown.nets import Net
+from alsoshown.rounds import Round
+from making import net_of
+
+GOOD = ["a", "z", "m", "a0", "z9", "abcdefgh", "a1234567", "a0b0c0d0", "zzzzzzzz"]
+BAD = [
+    "", "A", "Z", "0", "9", "0a", "aB", "abcdefghi", "a12345678", " ", " a", "a ", "a b", "a\n", "\na", "a\0",
+    "a_b", "_a", "a-b", "a.b", "[", "`", "{", "a/", "a:", "a@", "\u00e4", "a\u00e4", "\u0430", "a\u0661", "a\u00b2",
+    "\u00df", "\u017f", None, True, False, 0, 1, 7, 1.5, b"a", ("a",), ["a"], {"a": 1}, {"a"}, object(),
+]
+
+
+class NamesTest(unittest.TestCase):
+    def test_names_of_posts_and_lanes(self):
+        for name in GOOD:
+            net = Net()
+            net.post(name)
+            net.lane(name, name, name)
+            self.assertEqual((net.posts, net.lanes), ((name,), (name,)))
+
+    def test_what_is_no_name_of_a_post(self):
+        for name in BAD:
+            net = net_of("u")
+            with self.assertRaises(BadName, msg=repr(name)) as caught:
+                net.post(name)
+            self.assertIs(caught.exception.name, name)
+            self.assertEqual(net.posts, ("u",))
+
+    def test_what_is_no_name_of_a_lane(self):
+        for name in BAD:
+            net = net_of("u")
+            with self.assertRaises(BadName, msg=repr(name)) as caught:
+                net.lane(name, "u", "u")
+            self.assertIs(caught.exception.name, name)
+            self.assertEqual(net.lanes, ())
+
+    def test_names_in_rounds(self):
+        self.assertEqual(Round(GOOD).lanes, tuple(GOOD))
+        for name in BAD:
+            with self.assertRaises(BadName, msg=repr(name)) as caught:
+                Round(("a", name, "B"))
+            self.assertIs(caught.exception.name, name)
+
+    def test_true_and_false_are_no_integers(self):
+        ring = Round(("a", "b"))
+        for operation in (lambda n: ring[n], lambda n: ring * n, lambda n: ring << n):
+            for wrong in (True, False):
+                with self.assertRaises(BadNumber) as caught:
+                    operation(wrong)
+                self.assertIs(caught.exception.value, wrong)
+
+
+if __name__ == "__main__":
+    unittest.main()
