@@ -1,4 +1,4 @@
-"""Nets for the tests, made from short texts."""
+"""Nets for the tests, made from short texts, and the rounds of a net, found by trying."""
 
 from alsoshown.nets import Net
 
@@ -29,3 +29,45 @@ def small_nets():
             if choice >> k & 1:
                 net.lane(f"l{k}", a, b)
         yield net
+
+
+def ring_net(many):
+    """A net that is a single ring of so many lanes."""
+    net = Net()
+    for k in range(many):
+        net.post(f"p{k}")
+    for k in range(many):
+        net.lane(f"l{k}", f"p{k}", f"p{(k + 1) % many}")
+    return net
+
+
+def random_net(source, posts, lanes, joined=True):
+    """A net of so many posts and lanes; if it is joined, a ring through all posts is among the lanes."""
+    order = source.sample(range(posts), posts)
+    pairs = list(zip(order, order[1:] + order[:1])) if joined else []
+    while len(pairs) < lanes:
+        pairs.append((source.randrange(posts), source.randrange(posts)))
+    source.shuffle(pairs)
+    net = Net()
+    for k in range(posts):
+        net.post(f"p{k}")
+    for k, (a, b) in enumerate(pairs):
+        net.lane(f"l{k}", f"p{a}", f"p{b}")
+    return net
+
+
+def closed_walks(net, most):
+    """The lanes of every round of the net of at most so many lanes, begun at each of its places."""
+    walks = [(lane,) for lane in net.lanes]
+    for _ in range(most):
+        yield from [lanes for lanes in walks if net.end_of(lanes[-1]) == net.start_of(lanes[0])]
+        walks = [lanes + (lane,) for lanes in walks for lane in net.out_of(net.end_of(lanes[-1]))]
+
+
+def rounds_taking(net, wanted, most):
+    """The lanes of every round of at most so many lanes that takes these lanes, each round once."""
+    found = {}
+    for lanes in closed_walks(net, most):
+        if set(wanted) <= set(lanes):
+            found.setdefault(min(lanes[k:] + lanes[:k] for k in range(len(lanes))), lanes)
+    return list(found.values())

@@ -7,6 +7,12 @@ import unittest
 FUNCTIONS = {
     "nets": {"walked": "net lanes", "way_from": "net a b", "parts_of": "net"},
     "rounds": {"fits": "net ring"},
+    "patterns": {
+        "any_of": "*names", "none_of": "*names", "walk_of": "*names", "repeated": "p", "optional": "p",
+        "within": "p q", "parting": "p q"},
+    "asked": {"showing": "asked pattern", "avoiding": "asked pattern", "paper": "asked pattern",
+              "never": "asked pattern"},
+    "longest": {"longest": "asked", "grown": "asked stretch", "detour": "net stretch"},
 }
 
 METHODS = {
@@ -19,9 +25,16 @@ METHODS = {
         "__init__": "lanes", "root": "", "least": "", "taken": "", "places": "lanes", "__getitem__": "at",
         "__len__": "", "__contains__": "x", "__eq__": "other", "__mul__": "other", "__lshift__": "other",
         "__neg__": ""},
+    ("patterns", "Pattern"): {
+        "__contains__": "x", "__bool__": "", "__add__": "other", "__or__": "other", "__mul__": "other",
+        "__neg__": ""},
+    ("asked", "Asked"): {
+        "__init__": "net wanted", "part": "", "round": "", "__bool__": "", "__call__": "pattern"},
 }
 
-PROPERTIES = {("nets", "Net"): ["posts", "lanes"], ("rounds", "Round"): ["lanes"]}
+PROPERTIES = {
+    ("nets", "Net"): ["posts", "lanes"], ("rounds", "Round"): ["lanes"], ("patterns", "Pattern"): ["text", "names"],
+    ("asked", "Asked"): ["net", "wanted"]}
 
 
 def module_of(name):
@@ -33,8 +46,8 @@ class InterfaceTest(unittest.TestCase):
         """The names of the parameters, after a check that all may be passed by position."""
         found = inspect.signature(function).parameters.values()
         for parameter in found:
-            self.assertEqual(parameter.kind, parameter.POSITIONAL_OR_KEYWORD)
-        return " ".join(parameter.name for parameter in found)
+            self.assertIn(parameter.kind, (parameter.POSITIONAL_OR_KEYWORD, parameter.VAR_POSITIONAL))
+        return " ".join(str(parameter) for parameter in found)
 
     def test_functions(self):
         for name, functions in FUNCTIONS.items():
@@ -52,6 +65,11 @@ class InterfaceTest(unittest.TestCase):
                 own = vars(made)[method]
                 self.assertTrue(inspect.isfunction(own), method)
                 self.assertEqual(self.parameters(own), f"self {parameters}".strip(), method)
+
+    def test_class_methods(self):
+        read = vars(module_of("patterns").Pattern)["read"]
+        self.assertIsInstance(read, classmethod)
+        self.assertEqual(self.parameters(read.__func__), "cls text")
 
     def test_properties_are_read_only(self):
         for (name, title), properties in PROPERTIES.items():

@@ -91,6 +91,69 @@ class LanguageTest(unittest.TestCase):
                 self.assertFalse([given for given in node.args if isinstance(given, ast.GeneratorExp)], place)
             self.assertFalse(isinstance(node.func, ast.Attribute) and node.func.attr == "sort", place)
 
+    def test_nothing_is_added_in_place(self):
+        # Where a class has __iadd__ or __ior__, the rules for these signs are narrow; nothing here needs them.
+        self.assertEqual([place for place, _ in nodes(ast.AugAssign)], [])
+
+    def test_what_is_ordered(self):
+        # Net has an order of its own, so only sets and what is plainly numbers or strings are sorted.
+        for place, node in nodes(ast.Call):
+            if isinstance(node.func, ast.Name) and node.func.id in ("sorted", "min", "max"):
+                self.assertEqual((node.func.id, len(node.args), node.keywords), ("sorted", 1, []), place)
+                inner = node.args[0]
+                self.assertTrue(isinstance(inner, ast.Call) and getattr(inner.func, "id", "") == "set", place)
+
+    def test_sets_are_only_sorted(self):
+        self.assertEqual([place for place, _ in nodes((ast.Set, ast.SetComp))], [])
+        ordered = [node.args[0] for _, node in nodes(ast.Call) if getattr(node.func, "id", "") == "sorted"]
+        sets = [node for _, node in nodes(ast.Call) if getattr(node.func, "id", "") in ("set", "frozenset")]
+        self.assertEqual([ast.dump(node) for node in sets], [ast.dump(node) for node in ordered])
+
+    def test_values_of_modules_are_literals(self):
+        for name, tree in trees():
+            for row in tree.body:
+                if isinstance(row, ast.Assign):
+                    ast.literal_eval(row.value)
+
+    def test_local_names(self):
+        # No parameter, local variable or function has the name of a builtin, or of a class or an import of its file.
+        for name, tree in trees():
+            barred = {alias.name for row in tree.body if isinstance(row, ast.ImportFrom) for alias in row.names}
+            barred |= {row.name for row in tree.body if isinstance(row, ast.ClassDef)} | set(dir(builtins))
+            used = [node.arg for node in ast.walk(tree) if isinstance(node, ast.arg)]
+            named = [node for node in ast.walk(tree) if isinstance(node, ast.Name)]
+            used += [node.id for node in named if isinstance(node.ctx, ast.Store)]
+            used += [row.name for row in tree.body if isinstance(row, ast.FunctionDef)]
+            self.assertEqual(sorted(barred & set(used)), [], name)
+
+    def test_properties_and_methods_have_names_of_their_own(self):
+        stored = {node.attr for _, node in nodes(ast.Attribute) if isinstance(node.ctx, ast.Store)}
+        methods, properties = set(), set()
+        for _, node in nodes(ast.ClassDef):
+            for row in node.body:
+                if isinstance(row, ast.FunctionDef):
+                    marks = [mark.id for mark in row.decorator_list]
+                    (properties if marks == ["property"] else methods).add(row.name)
+        self.assertEqual((methods & stored, properties & stored, properties & methods), (set(), set(), set()))
+
+    def test_generators_are_not_called_by_the_package(self):
+        functions = [node for _, node in nodes(ast.FunctionDef)]
+        found = [node.name for node in functions if any(isinstance(row, ast.Yield) for row in ast.walk(node))]
+        self.assertIn("longest", found)
+        self.assertEqual([place for place, node in nodes(ast.Name) if node.id in found], [])
+        self.assertEqual([[node.name for node in functions].count(name) for name in found], [1] * len(found))
+
+    def test_is_stands_beside_none_alone(self):
+        for place, node in nodes(ast.Compare):
+            if isinstance(node.ops[0], (ast.Is, ast.IsNot)):
+                self.assertIsNone(node.comparators[0].value, place)
+
+    def test_nothing_calls_itself(self):
+        # A deep pattern or a large net must not lead to deep recursion.
+        for place, node in nodes(ast.FunctionDef):
+            calls = [row.func for row in ast.walk(node) if isinstance(row, ast.Call)]
+            self.assertNotIn(node.name, [call.id for call in calls if isinstance(call, ast.Name)], place)
+
     def test_nothing_warns(self):
         for path in files():
             with warnings.catch_warnings():

@@ -1,9 +1,12 @@
-"""Points 1 and 2: what is a name, and what is an integer."""
+"""Points 1, 2, 4, 9, 12 and 18: what is a name, who refuses what is none, and what is an integer."""
 
 import unittest
 
-from alsoshown.errors import BadName, BadNumber
+from alsoshown.asked import Asked, avoiding, never, paper, showing
+from alsoshown.errors import BadName, BadNumber, EmptyWalk
+from alsoshown.longest import detour, grown
 from alsoshown.nets import Net
+from alsoshown.patterns import any_of, none_of, parting, walk_of, within
 from alsoshown.rounds import Round
 from making import net_of
 
@@ -46,9 +49,37 @@ class NamesTest(unittest.TestCase):
                 Round(("a", name, "B"))
             self.assertIs(caught.exception.name, name)
 
+    def test_names_in_patterns(self):
+        for function in (any_of, none_of, walk_of):
+            self.assertEqual(function(*GOOD).names, tuple(sorted(GOOD)))
+            for name in BAD:
+                with self.assertRaises(BadName, msg=repr(name)) as caught:
+                    function("a", name, "B")
+                self.assertIs(caught.exception.name, name)
+
+    def test_names_in_tuples_that_stand_for_patterns(self):
+        net = net_of("u", "a u u, b u u")
+        asked = Asked(net, ("a",))
+        takers = [asked, lambda lanes: within(lanes, ()), lambda lanes: parting(none_of(), lanes),
+                  lambda lanes: detour(net, lanes)]
+        takers += [lambda lanes, taker=taker: taker(asked, lanes) for taker in (showing, avoiding, paper, never, grown)]
+        for taker in takers:
+            with self.assertRaises(EmptyWalk):
+                taker(())
+            for name in BAD:
+                with self.assertRaises(BadName, msg=repr(name)) as caught:
+                    taker(("a", name, "B"))
+                self.assertIs(caught.exception.name, name)
+
+    def test_none_at_all(self):
+        for function in (any_of, walk_of, lambda: Round(())):
+            with self.assertRaises(EmptyWalk):
+                function()
+        self.assertEqual(none_of().names, ())
+
     def test_true_and_false_are_no_integers(self):
-        ring = Round(("a", "b"))
-        for operation in (lambda n: ring[n], lambda n: ring * n, lambda n: ring << n):
+        ring, pattern = Round(("a", "b")), any_of("a")
+        for operation in (lambda n: ring[n], lambda n: ring * n, lambda n: ring << n, lambda n: pattern * n):
             for wrong in (True, False):
                 with self.assertRaises(BadNumber) as caught:
                     operation(wrong)
