@@ -5,7 +5,7 @@ from alsoshown.nets import check_lanes, parts_of, ways_from
 from alsoshown.patterns import pattern_of
 from alsoshown.rounds import Round
 from alsoshown.standings import Standings, written_out
-from alsoshown.ways import lanes_by_number, numbered, of_number, way_taking
+from alsoshown.ways import lanes_by_number, numbered, of_numbers, way_taking
 
 
 class Asked:
@@ -88,7 +88,7 @@ def _round_with(asked, walk):
     return Round(walk + way_taking(leads, here, start, left))
 
 
-def _standings_of(asked, pattern):
+def standings_of(asked, pattern):
     """The standings in the part of asked that can be reached without completing the pattern."""
     # Where there are no rounds, this is where NoRound is raised, so it comes before all that is decided.
     posts, lanes = asked.part()
@@ -100,23 +100,27 @@ def showing(asked, pattern):
     sought = pattern_of(pattern)
     if sought.atoms.empty:
         return asked.round()
-    walk = _standings_of(asked, sought).completing()
+    walk = standings_of(asked, sought).completing()
     return None if walk is None else _round_with(asked, walk)
 
 
 def avoiding(asked, pattern):
     """A round of asked that does not show the pattern, or None."""
-    sought = pattern_of(pattern)
-    leads = _standings_of(asked, sought).leads
-    if sought.atoms.empty:
+    leads, numbers, chosen = numbers_without(asked, pattern_of(pattern))
+    if len(chosen) == 0:
         return None
+    return _round_among(of_numbers(leads, numbers, (chosen[0],)), asked.wanted)
+
+
+def numbers_without(asked, sought):
+    """The graph of the standings, their numbers, and those numbers in which rounds of asked avoid the pattern."""
+    leads = standings_of(asked, sought).leads
+    if sought.atoms.empty:
+        return ({}, {}, [])
     # A round that goes on for ever without showing the pattern comes back to a standing, so it stays in one number.
     numbers = numbered(leads)
     inner = lanes_by_number(leads, numbers)
-    for number in inner:
-        if all([lane in inner[number] for lane in asked.wanted]):
-            return _round_among(of_number(leads, numbers, number), asked.wanted)
-    return None
+    return (leads, numbers, [number for number in inner if all([lane in inner[number] for lane in asked.wanted])])
 
 
 def _round_among(leads, wanted):
@@ -128,7 +132,7 @@ def _round_among(leads, wanted):
 def paper(asked, pattern):
     """The evidence that every round of asked shows the pattern, or None."""
     sought = pattern_of(pattern)
-    leads = _standings_of(asked, sought).leads
+    leads = standings_of(asked, sought).leads
     if sought.atoms.empty:
         return ({}, {})
     numbers = numbered(leads)
@@ -145,7 +149,7 @@ def paper(asked, pattern):
 def never(asked, pattern):
     """The evidence that no round of asked shows the pattern, or None."""
     sought = pattern_of(pattern)
-    standings = _standings_of(asked, sought)
+    standings = standings_of(asked, sought)
     if sought.atoms.empty or standings.completing() is not None:
         return None
     return sorted(set([written_out(here) for here in standings.leads]))

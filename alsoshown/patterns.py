@@ -94,6 +94,19 @@ def pattern_of(given):
     return walk_of(*given)
 
 
+def unshown(lanes):
+    """A pattern that no walk of these lanes shows."""
+    return any_of(_other_name(lanes))
+
+
+def _other_name(names):
+    """A name that is none of these."""
+    count = 0
+    while f"x{count}" in names:
+        count = count + 1
+    return f"x{count}"
+
+
 def within(p, q):
     """Tell whether every word of p is a word of q."""
     less = pattern_of(p)
@@ -128,13 +141,10 @@ def parting(p, q):
 
 def _different_lanes(one, two):
     """One lane for each way in which atoms of the two patterns take it: a dict of lanes by these pairs of masks."""
-    names = list(one.names + two.names)
-    count = 0
-    # One name that neither pattern has stands for all of these.
-    while f"x{count}" in names:
-        count = count + 1
+    names = one.names + two.names
     lanes = {}
-    for lane in names + [f"x{count}"]:
+    # One name that neither pattern has stands for all of these.
+    for lane in names + (_other_name(names),):
         taking = (one.atoms.taking(lane), two.atoms.taking(lane))
         if taking not in lanes:
             lanes[taking] = lane

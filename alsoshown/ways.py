@@ -48,6 +48,27 @@ def way_taking(leads, start, end, lanes):
     return gone
 
 
+def shortest_taking(leads, start, lanes, ends):
+    """A shortest way from start to one of the ends that takes all these lanes, which are different, or None."""
+    bits = {lane: 1 << place for place, lane in enumerate(lanes)}
+    every = (1 << len(lanes)) - 1
+    came = {(start, 0): None}
+    queue = [(start, 0)]
+    at = 0
+    while at < len(queue):
+        here = queue[at]
+        at = at + 1
+        node, taken = here
+        if taken == every and node in ends:
+            return traced(came, here)
+        for lane, following in leads[node]:
+            there = (following, taken | bits.get(lane, 0))
+            if there not in came:
+                came[there] = (here, lane)
+                queue.append(there)
+    return None
+
+
 def numbered(leads):
     """A number for each node: no lane leads to a smaller one, and equal ones have ways to each other."""
     back = {}
@@ -108,9 +129,9 @@ def lanes_by_number(leads, numbers):
     return inner
 
 
-def of_number(leads, numbers, number):
-    """The graph of the nodes with this number and of what leads from one to another of them."""
+def of_numbers(leads, numbers, chosen):
+    """The graph of the nodes with one of these numbers, and of what leads from them to nodes with the same one."""
     return {
-        here: [(lane, there) for lane, there in leads[here] if numbers[there] == number]
-        for here in leads if numbers[here] == number
+        here: [(lane, there) for lane, there in leads[here] if numbers[there] == numbers[here]]
+        for here in leads if numbers[here] in chosen
     }

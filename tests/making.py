@@ -56,6 +56,14 @@ def random_net(source, posts, lanes, joined=True):
     return net
 
 
+def random_walk(source, net, most):
+    """A walk of at most so many lanes; it is shorter where no lane leads on."""
+    lanes = [source.choice(net.lanes)]
+    while len(lanes) < most and net.out_of(net.end_of(lanes[-1])):
+        lanes.append(source.choice(net.out_of(net.end_of(lanes[-1]))))
+    return tuple(lanes)
+
+
 def closed_walks(net, most):
     """The lanes of every round of the net of at most so many lanes, begun at each of its places."""
     walks = [(lane,) for lane in net.lanes]

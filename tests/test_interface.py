@@ -13,6 +13,12 @@ FUNCTIONS = {
     "asked": {"showing": "asked pattern", "avoiding": "asked pattern", "paper": "asked pattern",
               "never": "asked pattern"},
     "longest": {"longest": "asked", "grown": "asked stretch", "detour": "net stretch"},
+    "lots": {"closed": "asked", "wishes": "asked", "loopholes": "asked pattern", "settling": "asked pattern"},
+    "courses": {
+        "lanes_of": "course", "without": "course lane pattern", "suite": "course wanted pattern",
+        "gate": "course lane other", "goals": "course", "fewest": "course wanted", "apart": "course wanted",
+        "together": "course wanted pattern=None"},
+    "shortest": {"shortest": "asked pattern=None"},
 }
 
 METHODS = {
@@ -30,11 +36,12 @@ METHODS = {
         "__neg__": ""},
     ("asked", "Asked"): {
         "__init__": "net wanted", "part": "", "round": "", "__bool__": "", "__call__": "pattern"},
+    ("courses", "Course"): {"__init__": "net start ends", "__contains__": "x", "__len__": ""},
 }
 
 PROPERTIES = {
     ("nets", "Net"): ["posts", "lanes"], ("rounds", "Round"): ["lanes"], ("patterns", "Pattern"): ["text", "names"],
-    ("asked", "Asked"): ["net", "wanted"]}
+    ("asked", "Asked"): ["net", "wanted"], ("courses", "Course"): ["net"]}
 
 
 def module_of(name):

@@ -3,11 +3,14 @@
 import unittest
 
 from alsoshown.asked import Asked, avoiding, never, paper, showing
+from alsoshown.courses import Course, suite, together, without
 from alsoshown.errors import BadName, BadNumber, EmptyWalk
 from alsoshown.longest import detour, grown
+from alsoshown.lots import loopholes, settling
 from alsoshown.nets import Net
 from alsoshown.patterns import any_of, none_of, parting, walk_of, within
 from alsoshown.rounds import Round
+from alsoshown.shortest import shortest
 from making import net_of
 
 GOOD = ["a", "z", "m", "a0", "z9", "abcdefgh", "a1234567", "a0b0c0d0", "zzzzzzzz"]
@@ -62,7 +65,10 @@ class NamesTest(unittest.TestCase):
         asked = Asked(net, ("a",))
         takers = [asked, lambda lanes: within(lanes, ()), lambda lanes: parting(none_of(), lanes),
                   lambda lanes: detour(net, lanes)]
-        takers += [lambda lanes, taker=taker: taker(asked, lanes) for taker in (showing, avoiding, paper, never, grown)]
+        takers += [lambda lanes, taker=taker: taker(asked, lanes)
+                   for taker in (showing, avoiding, paper, never, grown, loopholes, settling, shortest)]
+        course = Course(net, "u", ("u",))
+        takers += [lambda lanes, taker=taker: taker(course, "a", lanes) for taker in (without, suite, together)]
         for taker in takers:
             with self.assertRaises(EmptyWalk):
                 taker(())

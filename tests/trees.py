@@ -129,6 +129,15 @@ class Reader:
         there = {y for y in ahead if takes(self.atoms[y], lane)}
         return tuple(sorted(there)), bool(there & self.last)
 
+    def shown_along(self, lanes):
+        """Whether these lanes, gone once, show the pattern."""
+        atoms = ()
+        for lane in lanes:
+            atoms, completed = self.step(atoms, lane)
+            if completed:
+                return True
+        return self.empty
+
     def shown_by(self, lanes):
         """Whether the round of these lanes shows the pattern."""
         if self.empty:
