@@ -31,11 +31,19 @@ def greatest_of(asked):
     return [one for one in found if not any([len(two) > len(one) and _contains(two, one) for two in found])]
 
 
-def _refuse_one_ring(net, part):
-    """Raise OneRing if the part is a single ring."""
+def single_ring(net, part):
+    """The shortest round of the part if all its rounds are multiples of this one, otherwise None."""
     posts, lanes = part
-    if len(lanes) == len(posts):
-        raise OneRing(Round(way_taking(graph_of_part(net, part), posts[0], posts[0], lanes)))
+    if len(lanes) != len(posts):
+        return None
+    return Round(way_taking(graph_of_part(net, part), posts[0], posts[0], lanes))
+
+
+def _refuse_one_ring(net, part):
+    """Raise OneRing if all rounds of the part are multiples of one."""
+    ring = single_ring(net, part)
+    if ring is not None:
+        raise OneRing(ring)
 
 
 def _sure_along(asked, ring):

@@ -19,6 +19,11 @@ FUNCTIONS = {
         "gate": "course lane other", "goals": "course", "fewest": "course wanted", "apart": "course wanted",
         "together": "course wanted pattern=None"},
     "shortest": {"shortest": "asked pattern=None"},
+    "windows": {
+        "windows": "text k", "window_net": "words", "ring_text": "ring", "text_round": "text k",
+        "contained": "words word", "known_by": "text"},
+    "comparing": {"parting_round": "one two", "parting_stretch": "one two"},
+    "watching": {"turned": "watch deeds"},
 }
 
 METHODS = {
@@ -37,11 +42,22 @@ METHODS = {
     ("asked", "Asked"): {
         "__init__": "net wanted", "part": "", "round": "", "__bool__": "", "__call__": "pattern"},
     ("courses", "Course"): {"__init__": "net start ends", "__contains__": "x", "__len__": ""},
+    ("watching", "Watch"): {
+        "__init__": "net wanted=()", "wish": "wanted", "state": "name", "states": "", "sure": "", "do": "deed",
+        "told": "", "back": "number=1", "trial": "", "__getitem__": "at", "__setitem__": "at worth",
+        "__contains__": "x", "__len__": "", "__iadd__": "other"},
+    ("books", "Book"): {
+        "__init__": "", "written": "", "report": "", "__getitem__": "at", "__setitem__": "at worth",
+        "__contains__": "x", "__len__": ""},
 }
 
 PROPERTIES = {
     ("nets", "Net"): ["posts", "lanes"], ("rounds", "Round"): ["lanes"], ("patterns", "Pattern"): ["text", "names"],
-    ("asked", "Asked"): ["net", "wanted"], ("courses", "Course"): ["net"]}
+    ("asked", "Asked"): ["net", "wanted"], ("courses", "Course"): ["net"],
+    ("watching", "Watch"): ["net", "wanted", "names"], ("books", "Book"): ["net", "wanted", "names"]}
+
+# Those properties that can be assigned.
+ASSIGNED = [("watching", "Watch", "wanted")]
 
 
 def module_of(name):
@@ -74,16 +90,17 @@ class InterfaceTest(unittest.TestCase):
                 self.assertEqual(self.parameters(own), f"self {parameters}".strip(), method)
 
     def test_class_methods(self):
-        read = vars(module_of("patterns").Pattern)["read"]
-        self.assertIsInstance(read, classmethod)
-        self.assertEqual(self.parameters(read.__func__), "cls text")
+        for name, title in (("patterns", "Pattern"), ("books", "Book")):
+            read = vars(vars(module_of(name))[title])["read"]
+            self.assertIsInstance(read, classmethod)
+            self.assertEqual(self.parameters(read.__func__), "cls text")
 
-    def test_properties_are_read_only(self):
+    def test_properties_and_which_can_be_assigned(self):
         for (name, title), properties in PROPERTIES.items():
             for attribute in properties:
                 own = vars(vars(module_of(name))[title])[attribute]
                 self.assertIsInstance(own, property)
-                self.assertIsNone(own.fset)
+                self.assertEqual(own.fset is not None, (name, title, attribute) in ASSIGNED)
 
 
 if __name__ == "__main__":

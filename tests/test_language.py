@@ -132,8 +132,8 @@ class LanguageTest(unittest.TestCase):
         for _, node in nodes(ast.ClassDef):
             for row in node.body:
                 if isinstance(row, ast.FunctionDef):
-                    marks = [mark.id for mark in row.decorator_list]
-                    (properties if marks == ["property"] else methods).add(row.name)
+                    marks = [ast.unparse(mark) for mark in row.decorator_list]
+                    (properties if marks in (["property"], [f"{row.name}.setter"]) else methods).add(row.name)
         self.assertEqual((methods & stored, properties & stored, properties & methods), (set(), set(), set()))
 
     def test_generators_are_not_called_by_the_package(self):

@@ -1,8 +1,9 @@
-"""Points 1, 2, 4, 9, 12 and 18: what is a name, who refuses what is none, and what is an integer."""
+"""Points 1, 2, 4, 9, 12, 18, 41, 46, 49 and 50: what is a name, who refuses what is none, and what is an integer."""
 
 import unittest
 
 from alsoshown.asked import Asked, avoiding, never, paper, showing
+from alsoshown.books import Book
 from alsoshown.courses import Course, suite, together, without
 from alsoshown.errors import BadName, BadNumber, EmptyWalk
 from alsoshown.longest import detour, grown
@@ -11,6 +12,8 @@ from alsoshown.nets import Net
 from alsoshown.patterns import any_of, none_of, parting, walk_of, within
 from alsoshown.rounds import Round
 from alsoshown.shortest import shortest
+from alsoshown.watching import Watch
+from alsoshown.windows import text_round, windows
 from making import net_of
 
 GOOD = ["a", "z", "m", "a0", "z9", "abcdefgh", "a1234567", "a0b0c0d0", "zzzzzzzz"]
@@ -60,6 +63,16 @@ class NamesTest(unittest.TestCase):
                     function("a", name, "B")
                 self.assertIs(caught.exception.name, name)
 
+    def test_names_of_patterns_that_are_kept(self):
+        for kept in (Watch(Net()), Book()):
+            for name in GOOD:
+                kept[name] = ("a",)
+            self.assertEqual(kept.names, tuple(GOOD))
+            for name in BAD:
+                with self.assertRaises(BadName, msg=repr(name)) as caught:
+                    kept[name] = ("a",)
+                self.assertIs(caught.exception.name, name)
+
     def test_names_in_tuples_that_stand_for_patterns(self):
         net = net_of("u", "a u u, b u u")
         asked = Asked(net, ("a",))
@@ -69,6 +82,7 @@ class NamesTest(unittest.TestCase):
                    for taker in (showing, avoiding, paper, never, grown, loopholes, settling, shortest)]
         course = Course(net, "u", ("u",))
         takers += [lambda lanes, taker=taker: taker(course, "a", lanes) for taker in (without, suite, together)]
+        takers += [lambda lanes, kept=kept: kept.__setitem__("x", lanes) for kept in (Watch(net), Book())]
         for taker in takers:
             with self.assertRaises(EmptyWalk):
                 taker(())
@@ -85,7 +99,8 @@ class NamesTest(unittest.TestCase):
 
     def test_true_and_false_are_no_integers(self):
         ring, pattern = Round(("a", "b")), any_of("a")
-        for operation in (lambda n: ring[n], lambda n: ring * n, lambda n: ring << n, lambda n: pattern * n):
+        for operation in (lambda n: ring[n], lambda n: ring * n, lambda n: ring << n, lambda n: pattern * n,
+                          Watch(Net()).back, lambda n: windows("a", n), lambda n: text_round("a", n)):
             for wrong in (True, False):
                 with self.assertRaises(BadNumber) as caught:
                     operation(wrong)
