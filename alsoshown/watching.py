@@ -67,7 +67,7 @@ class Watch:
 
     def told(self):
         """The deeds that were done and are not undone."""
-        return [deed for deed, _, _ in self._history]
+        return [row[0] for row in self._history]
 
     def back(self, number=1):
         """Undo so many deeds, the last ones."""

@@ -54,7 +54,6 @@ def contained(words, word):
 
 def known_by(text):
     """The least k such that all ring texts with the same windows are multiples of one, or None."""
-    _check_word(text, 1, LONGEST_TEXT)
     for k in range(SHORTEST_WINDOW, LONGEST_WINDOW + 1):
         net = window_net(windows(text, k))
         # All posts and lanes of this net are in one part; it is a single ring exactly if there are as many of both.

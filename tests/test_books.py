@@ -49,19 +49,22 @@ class ReadTest(unittest.TestCase):
             self.assertEqual(content(Book.read(text)), expected)
 
     def test_lines_in_another_order(self):
-        lines = ["ask y (c)? b", "post v", "lane z v v", "post u", "want z", "ask x a", "lane b u v", "want b", "lane a u u",
+        lines = ["ask y (c)? b", "post v", "lane z v v", "post u", "want z", "ask x a", "lane b u v", "want b",
+                 "lane a u u",
                  "ask y [c b c]", "lane c v u", "want a"]
         book = Book.read("\n".join(lines))
         self.assertEqual(content(book), (rows_of(net_of("v u", "z v v, b u v, a u u, c v u")), ("z", "b", "a"),
                                          [("y", "[b c]"), ("x", "a")]))
 
     def test_the_same_names_for_posts_lanes_and_patterns(self):
-        book = Book.read("post post\nlane lane post post\nlane want post post\nwant want\nask ask ask\nask lane post want")
+        book = Book.read("post post\nlane lane post post\nlane want post post\nwant want\nask ask ask\n"
+                         "ask lane post want")
         self.assertEqual(content(book), ((("post",), [("lane", "post", "post"), ("want", "post", "post")]), ("want",),
                                          [("ask", "ask"), ("lane", "post want")]))
 
     def test_written_patterns(self):
-        for text in ("a", ". .", "([^a])* ([a b] | c d)", "[^b a a]", "((a | b))* c", "(a)? b", "(a b | (c)? .) d", "[a]"):
+        for text in ("a", ". .", "([^a])* ([a b] | c d)", "[^b a a]", "((a | b))* c", "(a)? b", "(a b | (c)? .) d",
+                     "[a]"):
             self.assertEqual(Book.read("ask x " + text)["x"].text, Pattern.read(text).text)
             self.assertIsInstance(Book.read("ask x " + text)["x"], Pattern)
 
@@ -92,9 +95,12 @@ class BadLineTest(unittest.TestCase):
         return cause
 
     def test_lines_of_no_form(self):
-        for wrong in ("x", "post", "post u v", "Post w", "posts w", "lane", "lane d", "lane d u", "lane d u v w", "want", "want b a",
-                      "ask", "ask y", " ", "  ", " post w", "post w ", "post  w", "lane d  u v", "lane d u v ", " want b", "want b ",
-                      "want  b", " ask y a", "ask  y a", "# post", "post\tw", "post-w", "report", "a", "drop a", "put d u v"):
+        for wrong in ("x", "post", "post u v", "Post w", "posts w", "lane", "lane d", "lane d u", "lane d u v w",
+                      "want", "want b a",
+                      "ask", "ask y", " ", "  ", " post w", "post w ", "post  w", "lane d  u v", "lane d u v ",
+                      " want b", "want b ",
+                      "want  b", " ask y a", "ask  y a", "# post", "post\tw", "post-w", "report", "a", "drop a",
+                      "put d u v"):
             for place in range(len(GOOD) + 1):
                 lines = GOOD[:place] + [wrong] + GOOD[place:]
                 self.bad_line("\n".join(lines), place + 1)
@@ -104,14 +110,20 @@ class BadLineTest(unittest.TestCase):
     def test_lines_that_are_refused(self):
         for wrong, error, given in (
                 ("post A", BadName, "A"), ("post abcdefghi", BadName, "abcdefghi"), ("post u", NameTaken, "u"),
-                ("post 1", BadName, "1"), ("lane A u v", BadName, "A"), ("lane a x y", NameTaken, "a"), ("lane d x y", NoPost, "x"),
-                ("lane d u y", NoPost, "y"), ("lane d U v", NoPost, "U"), ("lane A x y", BadName, "A"), ("want x", NoLane, "x"),
+                ("post 1", BadName, "1"), ("lane A u v", BadName, "A"), ("lane a x y", NameTaken, "a"),
+                ("lane d x y", NoPost, "x"),
+                ("lane d u y", NoPost, "y"), ("lane d U v", NoPost, "U"), ("lane A x y", BadName, "A"),
+                ("want x", NoLane, "x"),
                 ("want u", NoLane, "u"), ("want a", NameTaken, "a"), ("want A", NoLane, "A"), ("ask A a", BadName, "A"),
-                ("ask abcdefghi a", BadName, "abcdefghi"), ("ask y A", BadText, 0), ("ask y a b)", BadText, 3), ("ask y (a", BadText, 2),
-                ("ask y [a]*", BadText, 3), ("ask y a |", BadText, 2), ("ask y abcdefghi", BadText, 8), ("ask x []", BadText, 1),
-                ("ask y (a)*", EmptyWord, None), ("ask x (a b)?", EmptyWord, None), ("ask x (.)* (a)?", EmptyWord, None)):
+                ("ask abcdefghi a", BadName, "abcdefghi"), ("ask Y )", BadName, "Y"), ("ask 1 (a)*", BadName, "1"),
+                ("ask y A", BadText, 0), ("ask y a b)", BadText, 3), ("ask y (a", BadText, 2),
+                ("ask y [a]*", BadText, 3), ("ask y a |", BadText, 2), ("ask y abcdefghi", BadText, 8),
+                ("ask x []", BadText, 1),
+                ("ask y (a)*", EmptyWord, None), ("ask x (a b)?", EmptyWord, None),
+                ("ask x (.)* (a)?", EmptyWord, None)):
             before = "\n".join(GOOD) + "\n"
-            for text, line in ((before + wrong, 7), (before + "\n" + wrong + "\nx\npost A", 8), (before + wrong + "\n", 7)):
+            for text, line in ((before + wrong, 7), (before + "\n" + wrong + "\nx\npost A", 8),
+                               (before + wrong + "\n", 7)):
                 cause = self.bad_line(text, line, error)
                 self.assertEqual(list(vars(cause).values()), [] if given is None else [given])
 
@@ -136,7 +148,8 @@ class WrittenTest(unittest.TestCase):
     def test_by_hand(self):
         self.assertEqual(Book.read(TEXT).written(), TEXT)
         text = "ask y a (b)?\npost v\nlane b v v\npost u\nlane a u v\nwant a\nwant b\nask x [^c b]"
-        self.assertEqual(Book.read(text).written(), "post v\npost u\nlane b v v\nlane a u v\nwant b\nwant a\nask y a (b)?\nask x [^b c]\n")
+        self.assertEqual(Book.read(text).written(),
+                         "post v\npost u\nlane b v v\nlane a u v\nwant b\nwant a\nask y a (b)?\nask x [^b c]\n")
 
     def test_there_and_back(self):
         source = random.Random(500)
@@ -150,12 +163,14 @@ class WrittenTest(unittest.TestCase):
                     patterns.append((name, pattern.text))
             text = written_by_hand(net, wanted, patterns)
             book = Book.read(text)
-            self.assertEqual(content(book), (rows_of(net), tuple(lane for lane in net.lanes if lane in wanted), patterns))
+            self.assertEqual(content(book), (rows_of(net), tuple(lane for lane in net.lanes if lane in wanted),
+                                             patterns))
             self.assertEqual(book.written(), text)
             lines = text.split("\n")
             self.assertEqual(Book.read("\n\n".join(lines)).written(), text)
             # Posts first and then their lanes, but wanted lanes and patterns wherever they may stand.
-            parts = {kind: [line for line in lines if line.startswith(kind)] for kind in ("post", "lane", "want", "ask")}
+            parts = {kind: [line for line in lines if line.startswith(kind)] for kind in ("post", "lane", "want",
+                "ask")}
             source.shuffle(parts["want"])
             mixed = parts["ask"] + parts["post"] + parts["lane"] + parts["want"]
             self.assertEqual(Book.read("\n".join(mixed)).written(), text)

@@ -70,7 +70,8 @@ class ErrorsTest(AskedCase):
         net = net_of("u v", "d u v, c v u, b u u, a v v")
         none = net_of("u v", "a u v, b u v, c u v, d u v")
         for one, two, name in ((("a", "b"), ("b", "c"), "a"), (("b", "c"), ("a", "b", "c"), "a"), (("a",), ("d",), "a"),
-                               (("a", "b", "c"), ("b",), "c"), (("a", "d"), ("b", "c"), "d"), (("c",), ("a", "b", "c", "d"), "d")):
+                               (("a", "b", "c"), ("b",), "c"), (("a", "d"), ("b", "c"), "d"),
+                               (("c",), ("a", "b", "c", "d"), "d")):
             for operation in (parting_round, parting_stretch):
                 with self.assertRaises(NoLane) as caught:
                     operation(Asked(net, one), Asked(net, two))
@@ -118,7 +119,8 @@ class RoundTest(AskedCase):
         ring = parting_round(one, other)
         self.assertNotEqual(is_round_of(ring, one), is_round_of(ring, other))
         # One lane more, or one lane that leads out of the part.
-        for other in (net_of("u v", "a u u, b u v, c v u, d v v"), net_of("u v w", "a u w, b u v, c v u"), net - ("a",)):
+        for other in (net_of("u v", "a u u, b u v, c v u, d v v"), net_of("u v w", "a u w, b u v, c v u"),
+                      net - ("a",)):
             for pair in ((one, Asked(other, ("b",))), (Asked(other, ("b",)), one)):
                 ring = parting_round(*pair)
                 self.assertEqual([is_round_of(ring, asked) for asked in pair].count(True), 1)
@@ -129,7 +131,8 @@ class RoundTest(AskedCase):
         for _ in range(300):
             one, two = some_pair(source, source.randint(1, 4), source.randint(2, 5))
             ring = parting_round(one, two)
-            rounds = [{Round(lanes).least() for lanes in rounds_taking(asked.net, asked.wanted, 5)} for asked in (one, two)]
+            rounds = [{Round(lanes).least() for lanes in rounds_taking(asked.net, asked.wanted, 5)} for asked in (one,
+                two)]
             counts[ring is None] += 1
             if ring is None:
                 self.assertEqual(*rounds)
@@ -173,7 +176,8 @@ class StretchTest(AskedCase):
     def test_single_rings(self):
         net = ring_net(4)
         one = Asked(net, ("l0", "l2"))
-        self.assertIsNone(self.parts(one, Asked(net_of("u v w x y", "l2 w x, l1 v w, l3 x u, l0 u v, m x y"), ("l2", "l0"))))
+        self.assertIsNone(self.parts(one, Asked(net_of("u v w x y", "l2 w x, l1 v w, l3 x u, l0 u v, m x y"),
+                                                ("l2", "l0"))))
         self.assertEqual(len(self.parts(one, Asked(net_of("u v", "l0 u v, l2 v u"), ("l0", "l2")))), 1)
         turned = Asked(net_of("u v w x", "l0 u v, l3 v w, l2 w x, l1 x u"), ("l0", "l2"))
         self.assertEqual(len(self.parts(one, turned)), 2)

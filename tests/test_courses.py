@@ -15,7 +15,8 @@ NET = net_of("x s u e w", "f w w, a s u, b u e, c s e, d e u, g u w, h x s, k e 
 
 class MakingTest(CourseCase):
     def test_strangers(self):
-        for start, ends, name in (("y", ("e", "z"), "y"), ("s", ("e", "z", "y"), "z"), ("a", ["b"], "a"), ("", ("",), ""),
+        for start, ends, name in (("y", ("e", "z"), "y"), ("s", ("e", "z", "y"), "z"), ("a", ["b"], "a"),
+                                  ("", ("",), ""),
                                   ("s", ["A"], "A"), ("s", ("e", "a"), "a"), ("y", (), "y")):
             self.raises(NoPost, name, Course, NET, start, ends)
         self.raises(NoPost, "u", Course, net_of(""), "u", ())
@@ -64,7 +65,8 @@ class RunsTest(CourseCase):
             self.assertIs(wrong in course, False, wrong)
 
     def test_the_empty_run(self):
-        for start, ends, expected in (("s", ("e",), False), ("s", ("e", "s"), True), ("w", ["w"], True), ("w", (), False)):
+        for start, ends, expected in (("s", ("e",), False), ("s", ("e", "s"), True), ("w", ["w"], True),
+                                      ("w", (), False)):
             course = Course(NET, start, ends)
             self.assertIs([] in course, expected)
             self.assertIs(() in course, expected)
@@ -74,8 +76,10 @@ class RunsTest(CourseCase):
         self.assertEqual((lanes_of(course), len(course), ["c"] in course, [] in course), ((), 0, False, False))
 
     def test_lanes_that_some_run_takes(self):
-        for start, ends, expected in (("s", ("e",), "abcdk"), ("s", ["u"], "abcdk"), ("s", ("w",), "fabcdgk"), ("w", ("w",), "f"),
-                                      ("s", ("s",), ""), ("x", ("s",), "h"), ("w", ("e",), ""), ("x", ("e", "x"), "abcdhk"),
+        for start, ends, expected in (("s", ("e",), "abcdk"), ("s", ["u"], "abcdk"), ("s", ("w",), "fabcdgk"),
+                                      ("w", ("w",), "f"),
+                                      ("s", ("s",), ""), ("x", ("s",), "h"), ("w", ("e",), ""),
+                                      ("x", ("e", "x"), "abcdhk"),
                                       ("e", ("e", "s"), "bdk")):
             course = Course(NET, start, ends)
             self.assertEqual(lanes_of(course), tuple(expected))

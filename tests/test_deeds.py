@@ -15,18 +15,24 @@ from making import net_of, rows_of
 
 NET = net_of("u v", "c v u, a u u, b u v")
 NO_DEEDS = [
-    (), ("put",), ("put", "x"), ("put", "x", "u"), ("put", "x", "u", "v", "v"), ("take",), ("take", "a", "b"), ("want",),
+    (), ("put",), ("put", "x"), ("put", "x", "u"), ("put", "x", "u", "v", "v"), ("take",), ("take", "a", "b"),
+    ("want",),
     ("want", "a", "b"), ("drop",), ("drop", "b", "c"), ("cut", "a"), ("Take", "a"), ("", "a"), ("a",), ("take ", "a"),
-    ("put", "a"), ("take", "x", "u", "v"), ["take", "a"], ["put", "x", "u", "v"], [], "take", "take a", "", None, 0, 1, True,
+    ("put", "a"), ("take", "x", "u", "v"), ["take", "a"], ["put", "x", "u", "v"], [], "take", "take a", "", None, 0, 1,
+    True,
     {"take": "a"}, {"take", "a"}, ("take", 1), ("take", None), ("take", ["a"]), ("take", ("a",)), ("put", "x", "u", 1),
-    ("put", 1, "u", "v"), ("put", "x", ["u"], "v"), (1, "a"), (None, "a"), (["take"], "a"), ((), "a"), (True, "a"), b"take",
+    ("put", 1, "u", "v"), ("put", "x", ["u"], "v"), (1, "a"), (None, "a"), (["take"], "a"), ((), "a"), (True, "a"),
+    b"take",
     (b"take", "a"), ("want", b"a"), ("put", "x", "u", None), {}, object(),
 ]
 REFUSED = [
-    (("put", "A", "u", "v"), BadName, "A"), (("put", "", "x", "y"), BadName, ""), (("put", "a", "x", "y"), NameTaken, "a"),
+    (("put", "A", "u", "v"), BadName, "A"), (("put", "", "x", "y"), BadName, ""),
+    (("put", "a", "x", "y"), NameTaken, "a"),
     (("put", "d", "x", "y"), NoPost, "x"), (("put", "d", "u", "y"), NoPost, "y"), (("put", "d", "A", "u"), NoPost, "A"),
-    (("put", "A", "x", "y"), BadName, "A"), (("take", "x"), NoLane, "x"), (("take", "u"), NoLane, "u"), (("take", ""), NoLane, ""),
-    (("take", "b"), StillWanted, "b"), (("want", "x"), NoLane, "x"), (("want", "A"), NoLane, "A"), (("want", "b"), NameTaken, "b"),
+    (("put", "A", "x", "y"), BadName, "A"), (("take", "x"), NoLane, "x"), (("take", "u"), NoLane, "u"),
+    (("take", ""), NoLane, ""),
+    (("take", "b"), StillWanted, "b"), (("want", "x"), NoLane, "x"), (("want", "A"), NoLane, "A"),
+    (("want", "b"), NameTaken, "b"),
     (("drop", "x"), NoLane, "x"), (("drop", "a"), NotWanted, "a"), (("drop", ""), NoLane, ""),
 ]
 
@@ -39,8 +45,9 @@ class Model:
         self.wanted, self.patterns, self.done = set(wanted), {}, []
 
     def do(self, deed, place=0):
-        parts = {"put": 4, "take": 2, "want": 2, "drop": 2}
-        if type(deed) is not tuple or not deed or any(type(part) is not str for part in deed) or parts.get(deed[0]) != len(deed):
+        if type(deed) is not tuple or [type(part) for part in deed] not in ([str] * 2, [str] * 4):
+            return BadDeed, place
+        if (deed[0], len(deed)) not in (("put", 4), ("take", 2), ("want", 2), ("drop", 2)):
             return BadDeed, place
         kind, lane = deed[:2]
         if kind == "put":
@@ -113,7 +120,8 @@ class DeedCase(unittest.TestCase):
         self.assertEqual(watch.wanted, tuple(lane for lane in model.rows if lane in model.wanted))
         self.assertEqual(watch.told(), [deed for deed, _, _ in model.done])
         self.assertEqual(watch.names, tuple(model.patterns))
-        self.assertEqual([watch[name].text for name in watch.names], [pattern.text for pattern in model.patterns.values()])
+        self.assertEqual([watch[name].text for name in watch.names],
+                         [pattern.text for pattern in model.patterns.values()])
 
     def has_states(self, watch, model):
         self.assertEqual(watch.states(), model.states())
@@ -135,7 +143,8 @@ class DeedCase(unittest.TestCase):
 
     def picture(self, watch):
         """All that can be seen of a watched net."""
-        return (rows_of(watch.net), watch.wanted, watch.told(), [(name, watch[name].text) for name in watch.names], watch.states(),
+        return (rows_of(watch.net), watch.wanted, watch.told(), [(name, watch[name].text) for name in watch.names],
+                watch.states(),
                 watch.sure())
 
 
@@ -147,12 +156,16 @@ class DoTest(DeedCase):
     def test_by_hand(self):
         watch = self.watch
         for deed, lanes, wanted, state, sure in (
-                (("want", "a"), "cab", "ab", "sure", [("a", "b", "c"), ("b", "c", "a")]), (("drop", "b"), "cab", "a", "sure", [("a",)]),
-                (("take", "b"), "ca", "a", "sure", None), (("drop", "a"), "ca", "", "none", []), (("put", "b", "v", "v"), "cab", "", "none", []),
+                (("want", "a"), "cab", "ab", "sure", [("a", "b", "c"), ("b", "c", "a")]),
+                (("drop", "b"), "cab", "a", "sure", [("a",)]),
+                (("take", "b"), "ca", "a", "sure", None), (("drop", "a"), "ca", "", "none", []),
+                (("put", "b", "v", "v"), "cab", "", "none", []),
                 (("want", "b"), "cab", "b", "never", None), (("put", "d", "u", "v"), "cabd", "b", "open", [("b",)]),
-                (("take", "a"), "cbd", "b", "never", [("b",)]), (("put", "a", "u", "u"), "cbda", "b", "open", [("b",)])):
+                (("take", "a"), "cbd", "b", "never", [("b",)]),
+                (("put", "a", "u", "u"), "cbda", "b", "open", [("b",)])):
             self.assertIsNone(watch.do(deed))
-            self.assertEqual((watch.net.lanes, watch.wanted, watch.state("x"), watch.sure()), (tuple(lanes), tuple(wanted), state, sure))
+            self.assertEqual((watch.net.lanes, watch.wanted, watch.state("x"), watch.sure()),
+                             (tuple(lanes), tuple(wanted), state, sure))
         self.assertEqual(len(watch.told()), 9)
         self.assertEqual(watch.told()[0], ("want", "a"))
         self.assertEqual((watch.net.start_of("b"), watch.net.end_of("a")), ("v", "u"))
@@ -364,9 +377,12 @@ class TurnedTest(DeedCase):
         for deeds, expected in (
                 ([], {}), ([("want", "a")], {"one": ("open", "sure")}), ([("take", "a")], {"one": ("open", "never")}),
                 ([("put", "d", "v", "v")], {"two": ("sure", "open")}),
-                ([("drop", "b")], {"one": ("open", "none"), "two": ("sure", "none"), "three": ("never", "none"), "four": ("sure", "none")}),
-                ([("drop", "b"), ("want", "b")], {}), ([("put", "d", "u", "u"), ("take", "a")], {"one": ("open", "never")}),
-                ([("want", "a"), ("drop", "b")], {"one": ("open", "sure"), "two": ("sure", "open"), "four": ("sure", "open")})):
+                ([("drop", "b")], {"one": ("open", "none"), "two": ("sure", "none"), "three": ("never", "none"),
+                                   "four": ("sure", "none")}),
+                ([("drop", "b"), ("want", "b")], {}), ([("put", "d", "u", "u"), ("take", "a")],
+                                                       {"one": ("open", "never")}),
+                ([("want", "a"), ("drop", "b")], {"one": ("open", "sure"), "two": ("sure", "open"),
+                                                  "four": ("sure", "open")})):
             copied = list(deeds)
             self.assertEqual(turned(self.watch, deeds), expected)
             self.assertEqual((self.picture(self.watch), deeds), (before, copied))
@@ -414,7 +430,8 @@ class ModelTest(DeedCase):
             model.wanted = set(wanted)
         elif what == 6:
             name = source.choice(["p", "q", "r"])
-            pattern = source.choice([any_of("a", "b"), any_of("a") + none_of("c"), any_of("c") + repeated(none_of("a")) + any_of("b")])
+            pattern = source.choice([any_of("a", "b"), any_of("a") + none_of("c"),
+                                     any_of("c") + repeated(none_of("a")) + any_of("b")])
             watch[name] = pattern
             model.patterns[name] = pattern
         else:

@@ -122,7 +122,8 @@ class FewestTest(CourseCase):
 
     def test_by_hand(self):
         course = Course(NET, "s", ("e",))
-        for wanted, many in ((("a",), 1), (("a", "x"), 1), (("a", "b"), 2), (["c", "b", "c"], 1), (("e1", "e2", "g"), 2),
+        for wanted, many in ((("a",), 1), (("a", "x"), 1), (("a", "b"), 2), (["c", "b", "c"], 1),
+                             (("e1", "e2", "g"), 2),
                              (("a", "c", "e1", "e2"), 4), (NET.lanes, 4), (("d", "f", "g"), 1), ((), 0), ([], 0)):
             runs, lanes = self.is_fewest(course, wanted)
             self.assertEqual(len(runs), many)

@@ -136,6 +136,18 @@ class LanguageTest(unittest.TestCase):
                     (properties if marks in (["property"], [f"{row.name}.setter"]) else methods).add(row.name)
         self.assertEqual((methods & stored, properties & stored, properties & methods), (set(), set(), set()))
 
+    def test_what_is_indexed_is_not_iterated_over(self):
+        for place, node in nodes(ast.ClassDef):
+            methods = [row.name for row in node.body if isinstance(row, ast.FunctionDef)]
+            self.assertTrue("__getitem__" not in methods or "__iter__" in methods, place)
+
+    def test_what_ends_a_with_statement_only_assigns(self):
+        found = [node for _, node in nodes(ast.FunctionDef) if node.name == "__exit__"]
+        self.assertEqual(len(found), 1)
+        for row in found[0].body:
+            self.assertIsInstance(row, ast.Assign)
+            self.assertIsInstance(row.value, ast.Attribute)
+
     def test_generators_are_not_called_by_the_package(self):
         functions = [node for _, node in nodes(ast.FunctionDef)]
         found = [node.name for node in functions if any(isinstance(row, ast.Yield) for row in ast.walk(node))]

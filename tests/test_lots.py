@@ -35,7 +35,8 @@ class ClosedTest(AskedCase):
     def test_by_hand(self):
         # b and c go to v and back, d and e to w and back; a is a lane of u alone, f leads out of the part.
         net = net_of("u v w x", "c v u, a u u, e w u, b u v, d u w, f u x")
-        for wanted, expected in ((("b",), ("c", "b")), (("c",), ("c", "b")), (("a",), ("a",)), (("d", "a"), ("a", "e", "d")),
+        for wanted, expected in ((("b",), ("c", "b")), (("c",), ("c", "b")), (("a",), ("a",)),
+                                 (("d", "a"), ("a", "e", "d")),
                                  (["e", "c"], ("c", "e", "b", "d"))):
             self.assertEqual(closed(Asked(net, wanted)), expected)
 
@@ -244,7 +245,8 @@ class LoopholesTest(AskedCase):
         for posts, lanes in ((10, 14), (1, 14), (3, 14), (10, 16)):
             net = random_net(source, posts, lanes)
             asked = Asked(net, net.lanes[:2])
-            for pattern in (Pattern.read("[l0 l1 l2 l3 l4 l5] . . . . . . [l7 l9 l0]"), built(random_tree(source, net.lanes, 8)),
+            for pattern in (Pattern.read("[l0 l1 l2 l3 l4 l5] . . . . . . [l7 l9 l0]"),
+                            built(random_tree(source, net.lanes, 8)),
                             any_of("l3") + repeated(none_of("l5", "l6", "l7")) + any_of("l4")):
                 found, settled = loopholes(asked, pattern), settling(asked, pattern)
                 for row in found[:6]:

@@ -46,14 +46,16 @@ class ReportTest(AskedCase):
                 "ask s [a b]\nask o a d\nask abcdefgh e\nask n a b c d e")
         report = Book.read(text).report().split("\n")
         self.assertEqual(report[:2] + report[3:], [
-            "posts 3 lanes 5", "wanted d a", "s        sure  [a b]", "o        never a d", "abcdefgh open  e", "n        never a b c d e",
+            "posts 3 lanes 5", "wanted d a", "s        sure  [a b]", "o        never a d", "abcdefgh open  e",
+            "n        never a b c d e",
             "sure b a", "sure c d", ""])
         self.assertEqual(report[2][:6], "round ")
         self.assertEqual(len(report[2].split()), 5)
 
     def test_no_sure_stretches_without_rounds_and_some_with_them(self):
         net = net_of("u", "a u u, b u u, c u u")
-        self.assertEqual(Book.read(written_by_hand(net, ("a", "b"), [])).report().split("\n")[3:], ["sure a", "sure b", ""])
+        self.assertEqual(Book.read(written_by_hand(net, ("a", "b"), [])).report().split("\n")[3:],
+                         ["sure a", "sure b", ""])
 
     def test_five_wanted_lanes(self):
         source = random.Random(520)
@@ -72,7 +74,8 @@ class ReportTest(AskedCase):
         for posts, lanes in ((10, 16), (1, 16), (4, 16), (12, 20)):
             net = random_net(source, posts, lanes)
             for many in (1, 5, 6):
-                self.has_report(net, source.sample(net.lanes, many), [("x", "[l0 l1] . . . . . . . . . . l2"), ("y", "l3 ([^l4])* l5")])
+                self.has_report(net, source.sample(net.lanes, many), [("x", "[l0 l1] . . . . . . . . . . l2"),
+                                                                      ("y", "l3 ([^l4])* l5")])
 
     def has_report(self, net, wanted, patterns):
         """Check a report line by line; states and stretches are compared with a watched net."""

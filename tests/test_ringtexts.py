@@ -20,7 +20,8 @@ def texts_with(words, most):
 
 def holds(text, word):
     """Whether the word stands somewhere when the text is read round and round."""
-    return any(all(text[(place + k) % len(text)] == letter for k, letter in enumerate(word)) for place in range(len(text)))
+    return any(all(text[(place + k) % len(text)] == letter for k,
+                   letter in enumerate(word)) for place in range(len(text)))
 
 
 def root(text):
@@ -33,7 +34,8 @@ class ContainedTest(AskedCase):
     def test_by_hand(self):
         words = windows("aabab", 2)
         self.assertEqual(words, ["aa", "ab", "ba"])
-        for word, verdict in (("a", "sure"), ("b", "sure"), ("c", "never"), ("aa", "sure"), ("bb", "never"), ("ac", "never"),
+        for word, verdict in (("a", "sure"), ("b", "sure"), ("c", "never"), ("aa", "sure"), ("bb", "never"),
+                              ("ac", "never"),
                               ("aab", "sure"), ("baa", "sure"), ("bab", "open"), ("aaa", "open"), ("abba", "never"),
                               ("baab", "open"), ("aabaa", "open"), ("z" * 60, "never")):
             self.assertEqual(contained(words, word), verdict, word)
@@ -72,7 +74,8 @@ class ContainedTest(AskedCase):
     def test_all_texts_up_to_a_length(self):
         source = random.Random(430)
         counts = {"sure": 0, "open": 0, "never": 0}
-        for text, k in (("aab", 2), ("aabb", 2), ("abac", 2), ("aabab", 3), ("abcac", 2), ("aabb", 3), ("abaab", 4), ("aaab", 3)):
+        for text, k in (("aab", 2), ("aabb", 2), ("abac", 2), ("aabab", 3), ("abcac", 2), ("aabb", 3), ("abaab", 4),
+                        ("aaab", 3)):
             words = windows(text, k)
             texts = texts_with(words, 11)
             self.assertTrue(texts)
@@ -84,7 +87,8 @@ class ContainedTest(AskedCase):
                 found = {holds(one, word) for one in texts}
                 verdict = contained(words, word)
                 counts[verdict] += 1
-                self.assertEqual(found, {"sure": {True}, "never": {False}, "open": {True, False}}[verdict], (words, word))
+                self.assertEqual(found, {"sure": {True}, "never": {False}, "open": {True, False}}[verdict],
+                                 (words, word))
         self.assertGreater(min(counts.values()), 20)
 
     def test_long_words_and_many_windows(self):

@@ -27,8 +27,10 @@ class ErrorsTest(CourseCase):
         self.course = Course(NET, "s", ("e",))
 
     def test_what_is_no_pattern_comes_first(self):
-        for operation in (lambda pattern: without(self.course, "y", pattern), lambda pattern: suite(self.course, ("y",), pattern),
-                          lambda pattern: together(self.course, ("y",), pattern), lambda pattern: suite(self.course, (), pattern)):
+        for operation in (lambda pattern: without(self.course, "y", pattern),
+                          lambda pattern: suite(self.course, ("y",), pattern),
+                          lambda pattern: together(self.course, ("y",), pattern),
+                          lambda pattern: suite(self.course, (), pattern)):
             for lanes in ((), []):
                 with self.assertRaises(EmptyWalk):
                     operation(lanes)
@@ -74,7 +76,8 @@ class WithoutTest(CourseCase):
         for lane, pattern, run in (("b", ("d",), ["a", "b"]), ("b", ["a"], ["c", "d", "b"]), ("c", any_of("b"), ["c"]),
                                    ("k", ("c",), ["a", "b", "k"]), ("a", none_of("a", "b"), ["a", "b"])):
             self.assertEqual(without(course, lane, pattern), run)
-        for lane, pattern in (("a", ("a",)), ("a", ("a", "b")), ("b", any_of("a", "d")), ("d", ["d", "b"]), ("c", none_of()),
+        for lane, pattern in (("a", ("a",)), ("a", ("a", "b")), ("b", any_of("a", "d")), ("d", ["d", "b"]),
+                              ("c", none_of()),
                               ("c", none_of() * 1), ("k", any_of("c", "b") + repeated(none_of("k")) + any_of("k"))):
             self.assertIsNone(without(course, lane, pattern))
 
@@ -208,8 +211,10 @@ class TogetherTest(CourseCase):
     def test_by_hand(self):
         course = Course(NET, "s", ("e",))
         for wanted, pattern, count in (((), None, 1), (("a",), None, 2), (("c", "b"), None, 3), (["k", "k"], None, 2),
-                                       (("a", "c"), None, None), ((), ("c",), 2), (("d",), ("c",), 4), (("b",), ["a"], 3),
-                                       (("b",), any_of("a", "d"), None), (("h",), None, None), (("d", "k"), ("d", "k"), 4),
+                                       (("a", "c"), None, None), ((), ("c",), 2), (("d",), ("c",), 4),
+                                       (("b",), ["a"], 3),
+                                       (("b",), any_of("a", "d"), None), (("h",), None, None),
+                                       (("d", "k"), ("d", "k"), 4),
                                        ((), none_of(), None), ([], none_of() * 2, 1), (("k",), none_of() * 2, None)):
             run = together(course, wanted) if pattern is None else together(course, wanted, pattern)
             if count is None:

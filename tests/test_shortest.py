@@ -33,7 +33,8 @@ class ShortestTest(AskedCase):
         # From u a ring of three leads through v and w, one of two through x, and a is a lane of u alone.
         net = net_of("u v w x", "a u u, b u v, c v w, d w u, e u x, f x u, g v u")
         for wanted, pattern, count in (
-                (("a",), None, 1), (("b",), None, 2), (("c",), None, 3), (("a", "e"), None, 3), (("c", "f", "a"), None, 6),
+                (("a",), None, 1), (("b",), None, 2), (("c",), None, 3), (("a", "e"), None, 3),
+                (("c", "f", "a"), None, 6),
                 (("b",), ("g",), 3), (("b",), any_of("g", "d"), None), (("a", "e"), ("a", "e"), 5),
                 (("a", "b"), any_of("a") + any_of("b", "e"), None), (("a",), ("a", "a"), 3), (("a",), ("b",), 1),
                 (("e",), none_of("e", "f"), 2), (("e",), ("e", "f", "e"), 3), (["g", "c"], walk_of("d", "b"), 6),
@@ -133,7 +134,8 @@ class ShortestTest(AskedCase):
             net = random_net(source, posts, lanes)
             asked = Asked(net, source.sample(net.lanes, 5))
             self.is_shortest(asked, None, len(shortest(asked)))
-            for text in ("[l0 l1 l2 l3 l4 l5 l6 l7] . . . x", ". l1 . l2 .", "[l8 l9] . . . l1", "l0 (([l3 l4] | l5))* l6",
+            for text in ("[l0 l1 l2 l3 l4 l5 l6 l7] . . . x", ". l1 . l2 .", "[l8 l9] . . . l1",
+                         "l0 (([l3 l4] | l5))* l6",
                          "[l0 l1 l2 l3 l4 l5 l6 l7] . . . . . x"):
                 pattern = Pattern.read(text)
                 ring = shortest(asked, pattern)

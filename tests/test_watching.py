@@ -44,7 +44,8 @@ class WantedTest(WatchCase):
     def test_assigned_and_wished(self):
         for change in (lambda watch, wanted: watch.wish(wanted), self.assign):
             watch = Watch(NET, ("a",))
-            for wanted, expected in ((["b", "c", "b"], ("c", "b")), ((), ()), (("d",), ("d",)), ([], ()), (NET.lanes, NET.lanes)):
+            for wanted, expected in ((["b", "c", "b"], ("c", "b")), ((), ()), (("d",), ("d",)), ([], ()),
+                                     (NET.lanes, NET.lanes)):
                 change(watch, wanted)
                 self.assertEqual(watch.wanted, expected)
                 self.assertIsInstance(watch.wanted, tuple)
@@ -122,7 +123,8 @@ class PatternsTest(WatchCase):
                     watch[name] = lanes
             self.raises(BadName, "B", lambda: self.keep(watch, name, ("a", "B", 1)))
             self.raises(BadName, 1, lambda: self.keep(watch, name, [1]))
-            for pattern in (optional(any_of("a")), repeated(none_of()), repeated(any_of("a")) + optional(walk_of("b", "c")),
+            for pattern in (optional(any_of("a")), repeated(none_of()),
+                            repeated(any_of("a")) + optional(walk_of("b", "c")),
                             any_of("a") | optional(any_of("b"))):
                 with self.assertRaises(EmptyWord):
                     watch[name] = pattern
@@ -151,13 +153,16 @@ class PatternsTest(WatchCase):
 class StatesTest(WatchCase):
     def setUp(self):
         self.watch = Watch(NET, ("b",))
-        for name, pattern in (("one", ("a",)), ("two", ("b", "c")), ("three", ("b", "b")), ("four", any_of("x") | any_of("c"))):
+        for name, pattern in (("one", ("a",)), ("two", ("b", "c")), ("three", ("b", "b")),
+                              ("four", any_of("x") | any_of("c"))):
             self.watch[name] = pattern
 
     def test_by_hand(self):
         watch = self.watch
-        for wanted, states in ((("b",), "open sure never sure"), (("a",), "sure open never open"), (["a", "c"], "sure sure never sure"),
-                               (("d",), "never never never never"), ((), "none none none none"), (("a", "d"), "none none none none")):
+        for wanted, states in ((("b",), "open sure never sure"), (("a",), "sure open never open"),
+                               (["a", "c"], "sure sure never sure"),
+                               (("d",), "never never never never"), ((), "none none none none"),
+                               (("a", "d"), "none none none none")):
             watch.wanted = wanted
             expected = dict(zip(("one", "two", "three", "four"), states.split()))
             self.assertEqual(watch.states(), expected)
@@ -178,14 +183,16 @@ class StatesTest(WatchCase):
         self.raises(NoPattern, "five", lambda: self.watch.state("five"))
 
     def test_sure(self):
-        for wanted, expected in ((("b",), [("b", "c")]), (("a",), [("a",)]), (["c", "a"], [("a", "b", "c"), ("b", "c", "a")]),
+        for wanted, expected in ((("b",), [("b", "c")]), (("a",), [("a",)]),
+                                 (["c", "a"], [("a", "b", "c"), ("b", "c", "a")]),
                                  ((), []), (("a", "d"), []), (("d",), None)):
             self.watch.wanted = wanted
             self.assertEqual(self.watch.sure(), expected)
 
     def test_sure_on_other_nets(self):
         for net, wanted, expected in ((ring_net(10), ("l3",), None), (ring_net(1), ("l0",), None), (net_of(""), (), []),
-                                      (net_of("u v", "a u v"), ("a",), []), (net_of("u", "a u u, b u u"), ("b",), [("b",)]),
+                                      (net_of("u v", "a u v"), ("a",), []),
+                                      (net_of("u", "a u u, b u u"), ("b",), [("b",)]),
                                       (net_of("u v", "a u v"), (), [])):
             self.assertEqual(Watch(net, wanted).sure(), expected)
 

@@ -10,7 +10,8 @@ from alsoshown.rounds import Round, fits
 from alsoshown.windows import contained, known_by, ring_text, text_round, window_net, windows
 from making import closed_walks, rows_of
 
-NO_TEXTS = ["", "a" * 41, "A", "aB", "a b", " a", "a\n", "a1", "0", "a-", "\u00e4", "a\u0430", "{", "`", None, 0, 7, True,
+NO_TEXTS = ["", "a" * 41, "A", "aB", "a b", " a", "a\n", "a1", "0", "a-", "\u00e4", "a\u0430", "{", "`", None, 0, 7,
+            True,
             False, 1.5, b"a", ["a"], ("a",), {"a": 1}, object()]
 NO_LENGTHS = [1, 9, 0, -1, -2, 10 ** 59, -10 ** 59, True, False, None, "3", "", 2.0, 3.5, (3,), [3], b"3"]
 
@@ -26,9 +27,11 @@ def random_text(source, letters, most):
 
 class WindowsTest(unittest.TestCase):
     def test_by_hand(self):
-        for text, k, expected in (("abcab", 3, ["aba", "abc", "bab", "bca", "cab"]), ("a", 2, ["aa"]), ("a", 8, ["a" * 8]),
+        for text, k, expected in (("abcab", 3, ["aba", "abc", "bab", "bca", "cab"]), ("a", 2, ["aa"]),
+                                  ("a", 8, ["a" * 8]),
                                   ("ab", 2, ["ab", "ba"]), ("ab", 5, ["ababa", "babab"]), ("abab", 3, ["aba", "bab"]),
-                                  ("zya", 2, ["az", "ya", "zy"]), ("aab", 2, ["aa", "ab", "ba"]), ("abc", 4, ["abca", "bcab", "cabc"]),
+                                  ("zya", 2, ["az", "ya", "zy"]), ("aab", 2, ["aa", "ab", "ba"]),
+                                  ("abc", 4, ["abca", "bcab", "cabc"]),
                                   ("aaab", 8, ["aaabaaab", "aabaaaba", "abaaabaa", "baaabaaa"])):
             self.assertEqual(windows(text, k), expected)
 
@@ -110,7 +113,8 @@ class NetTest(unittest.TestCase):
             ("ab", "bc", "ca"), [("abc", "ab", "bc"), ("bca", "bc", "ca"), ("cab", "ca", "ab")]))
         self.assertEqual(rows_of(window_net(["zz", "za", "zz", "bz", "za"])), (
             ("a", "b", "z"), [("bz", "b", "z"), ("za", "z", "a"), ("zz", "z", "z")]))
-        self.assertEqual(rows_of(window_net(["abcdefgh"])), (("abcdefg", "bcdefgh"), [("abcdefgh", "abcdefg", "bcdefgh")]))
+        self.assertEqual(rows_of(window_net(["abcdefgh"])), (("abcdefg", "bcdefgh"),
+                                                             [("abcdefgh", "abcdefg", "bcdefgh")]))
         self.assertEqual(rows_of(window_net(("aa",))), (("a",), [("aa", "a", "a")]))
 
     def test_the_order_of_the_words_has_no_meaning(self):
@@ -128,10 +132,13 @@ class NetTest(unittest.TestCase):
                 contained(words, "A")
 
     def test_the_first_wrong_word(self):
-        for words, wrong in ((("a", "A"), "a"), (("ab", "abc", "A"), "abc"), (["abc", "ab"], "ab"), (("ab", "a", ""), "a"),
-                             (["abcdefghi"], "abcdefghi"), (("abcdefgh", "abcdefghi"), "abcdefghi"), (("ab", "ba", "aB"), "aB"),
+        for words, wrong in ((("a", "A"), "a"), (("ab", "abc", "A"), "abc"), (["abc", "ab"], "ab"),
+                             (("ab", "a", ""), "a"),
+                             (["abcdefghi"], "abcdefghi"), (("abcdefgh", "abcdefghi"), "abcdefghi"),
+                             (("ab", "ba", "aB"), "aB"),
                              (("ab", "a1"), "a1"), (("ab", 5, None), 5), ([None, "ab"], None), (("ab", "b\n"), "b\n"),
-                             (("ab", ("a", "b")), ("a", "b")), (["ab", ["ab"]], ["ab"]), ((True, "ab"), True), (("ab", b"ab"), b"ab")):
+                             (("ab", ("a", "b")), ("a", "b")), (["ab", ["ab"]], ["ab"]), ((True, "ab"), True),
+                             (("ab", b"ab"), b"ab")):
             for operation in (lambda: window_net(words), lambda: contained(words, "ab"), lambda: contained(words, "A")):
                 with self.assertRaises(BadWord) as caught:
                     operation()
@@ -140,10 +147,12 @@ class NetTest(unittest.TestCase):
     def test_all_lengths(self):
         for k in range(2, 9):
             net = window_net([letter * k for letter in "zya"])
-            self.assertEqual((net.posts, net.lanes), (tuple(letter * (k - 1) for letter in "ayz"), tuple(x * k for x in "ayz")))
+            self.assertEqual((net.posts, net.lanes), (tuple(letter * (k - 1) for letter in "ayz"),
+                                                      tuple(x * k for x in "ayz")))
 
     def test_the_rounds_that_take_all_lanes_are_the_texts_with_these_windows(self):
-        for words in (("aa", "ab", "ba"), ("aab", "aba", "baa"), ("ab", "bc", "ca", "ac"), ("ab", "bb"), ("abab", "baba")):
+        for words in (("aa", "ab", "ba"), ("aab", "aba", "baa"), ("ab", "bc", "ca", "ac"), ("ab", "bb"),
+                      ("abab", "baba")):
             net, k = window_net(words), len(words[0])
             texts = {ring_text(Round(lanes)) for lanes in closed_walks(net, 6) if set(lanes) == set(net.lanes)}
             every = ("".join(row) for size in range(1, 7) for row in itertools.product("abc", repeat=size))
