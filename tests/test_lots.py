@@ -1,6 +1,7 @@
 """Points 18, 20, 30 and 31: sets of lanes that are always taken, that are enough, and that are not."""
 
 import random
+import sys
 
 from alsoshown.asked import Asked, avoiding
 from alsoshown.errors import BadName, EmptyWalk
@@ -29,6 +30,24 @@ def least_of(rows):
 
 def greatest_of(rows):
     return [row for row in rows if not any(set(other) > set(row) for other in rows)]
+
+
+def rows_run(operation):
+    """How many rows of the program are run in an operation."""
+    count = 0
+
+    def step(frame, event, told):
+        nonlocal count
+        count += event == "line"
+        return step
+
+    before = sys.gettrace()
+    sys.settrace(step)
+    try:
+        operation()
+    finally:
+        sys.settrace(before)
+    return count
 
 
 class ClosedTest(AskedCase):
@@ -263,6 +282,63 @@ class LoopholesTest(AskedCase):
         pattern = any_of(*ones) + any_of(*twos)
         self.assertEqual(loopholes(asked, pattern), [ones, twos])
         self.assertEqual(settling(asked, pattern), [(one, two) for one in ones for two in twos])
+
+
+class FourteenLanesTest(AskedCase):
+    """Point 31 at its limit of 14 inner lanes: two lanes from each of seven posts, all of them in one part."""
+
+    def setUp(self):
+        rows = [f"a{k} p{k} p{(k + 1) % 7}" for k in range(7)] + [f"b{k} p{k} p{(3 * k + 2) % 7}" for k in range(7)]
+        self.net = net_of(" ".join(f"p{k}" for k in range(7)), ", ".join(rows))
+        self.asked = Asked(self.net, ("a0",))
+        self.singles = [(lane,) for lane in self.net.lanes]
+
+    def test_by_hand(self):
+        for pattern, expected in (
+                # A round can take all the other lanes without a1.
+                (any_of("a1"), [("a1",)]), (optional(any_of("a1")), self.singles), (("a1",), [("a1",)]),
+                (any_of("a1", "b6"), [("a1",), ("b6",)]), (none_of(), self.singles), (("x",), []),
+                (none_of("b6") | any_of("b6"), self.singles), (("a1", "b2"), []),
+                # Of the ways back from a1 to a1, only b2 has less than three lanes.
+                (none_of("a1") * 3, [single for single in self.singles if single not in (("a1",), ("b2",))]),
+                (any_of("a1") + repeated(none_of()) + any_of("a2"), [("a1", "a2")]),
+                (any_of("a0", "a1") + none_of() * 2, [("a0",), ("a1",)])):
+            self.assertEqual(settling(self.asked, pattern), expected)
+
+    def test_every_wanted_lane(self):
+        for lane in self.net.lanes:
+            asked = Asked(self.net, (lane, "a0"))
+            self.assertEqual(settling(asked, any_of("a1")), [("a1",)])
+            self.assertEqual(settling(asked, optional(any_of("a1"))), self.singles)
+        # Only a5 leads to p6 from elsewhere, and only a6 away: a round without a5 takes b6 alone, or neither of these.
+        expected = [(lane,) if lane in ("a5", "a6") else (lane, "b6") for lane in self.net.lanes if lane != "b6"]
+        self.assertEqual(settling(self.asked, ("a5",)), expected)
+
+    def test_against_all_sets_of_lanes(self):
+        source = random.Random(314)
+        trees = [("any", ("a1",)), ("maybe", ("any", ("a1",))),
+                 ("or", ("any", ("a0", "a2")), ("then", ("any", ("b1", "a6")), ("any", ("b5", "a0"))))]
+        for _ in range(6):
+            trees.append(random_tree(source, self.net.lanes, source.randint(2, 5)))
+            left, right = source.sample(self.net.lanes, 4), source.sample(self.net.lanes, 4)
+            trees.append(("or", ("any", left[:2]), ("then", ("any", left[2:]), ("any", right))))
+            trees.append(("or", ("any", right[:2]), walk(random_walk(source, self.net, 2))))
+        most = 0
+        for tree in trees:
+            asked = Asked(self.net, source.sample(self.net.lanes, 2))
+            found = avoidable_sets(self.net, asked.part(), Reader(tree))
+            self.assertEqual(loopholes(asked, built(tree)), found)
+            outside = {row for row in sets_of(self.net.lanes) if not any(set(row) <= set(other) for other in found)}
+            least = [row for row in sets_of(self.net.lanes) if row in outside
+                     and not any(tuple(lane for lane in row if lane != other) in outside for other in row)]
+            self.assertEqual(settling(asked, built(tree)), least)
+            most = max(most, len(least))
+        self.assertGreater(most, 20)
+
+    def test_few_steps(self):
+        # There are 16384 sets of these lanes; an answer does not go through them one by one.
+        for pattern in (any_of("a1"), optional(any_of("a1")), none_of("a1") * 3, ("a1", "b2")):
+            self.assertLess(rows_run(lambda: settling(self.asked, pattern)), 50000)
 
 
 class KeepingTest(AskedCase):
